@@ -1,0 +1,1 @@
+"""Sketchbounds: small keepsakes of long streams, with bounds."""
