@@ -1,15 +1,30 @@
-"""What several test files share: rows made by plain steps, and a state to hold answers against."""
+"""What several test files share: rows made by plain steps, and states to hold answers against."""
 
+import copy
 from math import isqrt
 
+from sketchbounds.balance import Balance
+from sketchbounds.distinct import Distinct
+from sketchbounds.errors import BadText, KeepError, OutOfReach, TooFine, TooManyOff, Unlike
 from sketchbounds.frequent import Frequent
+from sketchbounds.rungs import Rungs
+from sketchbounds.window import Window
+
+REFUSALS = (Unlike, TooFine, OutOfReach, TooManyOff, BadText)
+
+
+def numbers_of(seed, many):
+    numbers = []
+    state = seed
+    for step in range(many):
+        state = (state * 6364136223846793005 + 1442695040888963407) % 2 ** 64
+        numbers.append(state)
+    return numbers
 
 
 def rows_of(seed, many, kinds, most_weight):
     rows = []
-    state = seed
-    for step in range(many):
-        state = (state * 6364136223846793005 + 1442695040888963407) % 2 ** 64
+    for state in numbers_of(seed, many):
         # The square makes low things come more often than high ones.
         draw = (state >> 33) % (kinds * kinds)
         thing = isqrt(draw) * 1000003 % 2 ** 60
@@ -25,6 +40,42 @@ def frequent_of(room, rows):
     return made
 
 
+def rungs_of(room, rows):
+    made = Rungs(room)
+    for thing, weight in rows:
+        made.add(thing, weight)
+    return made
+
+
+def window_of(room, reach, weights):
+    """A weight below 0 stands for so many arrivals without weight."""
+    made = Window(room, reach)
+    for weight in weights:
+        if weight < 0:
+            made.idle(-weight)
+        else:
+            made.add(weight)
+    return made
+
+
+def distinct_of(room, things):
+    made = Distinct(room)
+    for thing in things:
+        made.add(thing)
+    return made
+
+
+def balance_of(span, rows):
+    """A weight below 0 stands for so much taken."""
+    made = Balance(span)
+    for thing, weight in rows:
+        if weight < 0:
+            made.take(thing, -weight)
+        else:
+            made.put(thing, weight)
+    return made
+
+
 def true_weights(rows):
     weights = {}
     for thing, weight in rows:
@@ -34,3 +85,45 @@ def true_weights(rows):
 
 def state_of(frequent):
     return (frequent.room, frequent.total, frequent.lost, dict(frequent.counts))
+
+
+def fields_of(value):
+    """All that an object holds, as values of their own, so that later changes are seen."""
+    if hasattr(value, "__dict__"):
+        return {name: fields_of(held) for name, held in vars(value).items()}
+    return copy.deepcopy(value)
+
+
+def check_refused(test, refusal, call, *handed):
+    before = [fields_of(value) for value in handed]
+    with test.assertRaises(refusal) as caught:
+        call(*handed)
+    test.assertIsInstance(caught.exception, KeepError)
+    test.assertIsInstance(caught.exception, ValueError)
+    test.assertEqual([other for other in REFUSALS if isinstance(caught.exception, other)], [refusal])
+    test.assertEqual([fields_of(value) for value in handed], before)
+    return caught.exception
+
+
+def check_pouring(test, pour, make_one, make_other, go_on):
+    """Pouring changes neither, and each of the three goes on by itself; make_* tell the same object anew each time."""
+    for first, second in ((make_one, make_other), (make_other, make_one)):
+        check_by_themselves(test, pour, first(), second(), go_on)
+    alone = make_one()
+    check_by_themselves(test, pour, alone, alone, go_on)
+
+
+def check_by_themselves(test, pour, one, other, go_on):
+    before = (fields_of(one), fields_of(other))
+    poured = pour(one, other)
+    test.assertEqual((fields_of(one), fields_of(other)), before)
+    test.assertIs(type(poured), type(one))
+    parts = [one, other, poured]
+    for grown in parts:
+        states = [fields_of(part) for part in parts]
+        go_on(grown)
+        for part, state in zip(parts, states):
+            if part is grown:
+                test.assertNotEqual(fields_of(part), state)
+            else:
+                test.assertEqual(fields_of(part), state)
