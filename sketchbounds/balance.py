@@ -32,6 +32,7 @@ def with_row(sums, thing, weight):
 
 
 def pairs_for(rest):
+    # Where a division leaves a rest, or a root isn't whole, these pairs are not right; fits sees to that.
     if rest == [0, 0, 0, 0]:
         return []
     # Of two pairs (x, a), (y, b) this is -a * b * (x - y) ** 2, so not 0; of one pair it is 0.
@@ -42,7 +43,7 @@ def pairs_for(rest):
 
 
 def one_pair(rest):
-    if rest[0] == 0 or rest[1] % rest[0] != 0:
+    if rest[0] == 0:
         return None
     return [(rest[1] // rest[0], rest[0])]
 
@@ -50,25 +51,24 @@ def one_pair(rest):
 def two_pairs(rest, bend):
     # With both for x + y and times for x * y, each sum but the first two comes of the two ahead of it:
     # rest[2] = both * rest[1] - times * rest[0] and rest[3] = both * rest[2] - times * rest[1].
-    both = divmod(rest[1] * rest[2] - rest[0] * rest[3], bend)
-    times = divmod(rest[2] * rest[2] - rest[1] * rest[3], bend)
-    square = both[0] * both[0] - 4 * times[0]
-    if both[1] != 0 or times[1] != 0 or square < 1:
+    both = (rest[1] * rest[2] - rest[0] * rest[3]) // bend
+    times = (rest[2] * rest[2] - rest[1] * rest[3]) // bend
+    square = both * both - 4 * times
+    if square < 1:
         return None
     apart = root(square)
-    low = (both[0] - apart) // 2
-    more = divmod(rest[1] - low * rest[0], apart)
-    if more[1] != 0:
-        return None
-    return [(low, rest[0] - more[0]), (low + apart, more[0])]
+    low = (both - apart) // 2
+    more = (rest[1] - low * rest[0]) // apart
+    return [(low, rest[0] - more), (low + apart, more)]
 
 
 def fits(pairs, rest, span):
     sums = [0, 0, 0, 0]
     for thing, more in pairs:
-        if thing < 0 or thing >= span or more == 0:
+        if thing < 0 or thing >= span:
             return False
         sums = with_row(sums, thing, more)
+    # Two pairs of which one were of 0 would have a bend of 0, so their sums are never these.
     return sums == rest
 
 
