@@ -7,6 +7,7 @@ from sketchbounds.balance import Balance
 from sketchbounds.distinct import Distinct
 from sketchbounds.errors import BadText, KeepError, OutOfReach, TooFine, TooManyOff, Unlike
 from sketchbounds.frequent import Frequent
+from sketchbounds.keepsake import Keepsake
 from sketchbounds.rungs import Rungs
 from sketchbounds.window import Window
 
@@ -73,6 +74,26 @@ def balance_of(span, rows):
             made.take(thing, -weight)
         else:
             made.put(thing, weight)
+    return made
+
+
+def put_and_taken(seed, many, kinds, most_weight):
+    """Rows ("put", thing, weight), ("take", thing, weight) and ("idle", many)."""
+    rows = []
+    for (thing, weight), state in zip(rows_of(seed, many, kinds, most_weight), numbers_of(seed + 1, many)):
+        word = ("put", "put", "put", "take", "take", "idle")[(state >> 40) % 6]
+        rows.append((word, weight) if word == "idle" else (word, thing, weight))
+    return rows
+
+
+def go_through(keepsake, rows):
+    for word, *numbers in rows:
+        getattr(keepsake, word)(*numbers)
+
+
+def keepsake_of(room, reach, span, rows):
+    made = Keepsake(room, reach, span)
+    go_through(made, rows)
     return made
 
 

@@ -27,6 +27,11 @@ WORDS_LEFT_OUT = """
     type typing typing_extensions enum Enum IntEnum StrEnum Flag IntFlag Generic Protocol ABC ABCMeta namedtuple
     NamedTuple TypedDict TYPE_CHECKING abstractmethod
 """.split()
+KEYWORDS = {
+    "sorted": ("key", "reverse"), "min": ("key", "default"), "max": ("key", "default"), "sum": ("start",),
+    "enumerate": ("start",), "zip": ("strict",),
+}
+WALKERS = "list tuple dict sorted sum any all enumerate zip min max".split()
 PARTS_LEFT_OUT = ("dataclass", "overload", "contextmanager")
 NAMES_LEFT_OUT = "register mro elements open input version_info with_traceback add_note format format_map".split()
 KINDS = tuple(getattr(ast, name) for name in """
@@ -159,9 +164,46 @@ class LanguageTest(unittest.TestCase):
                 if isinstance(step, (ast.Is, ast.IsNot)):
                     self.assertIn(getattr(right, "value", 0), (None, True, False), (name, node.lineno))
 
+    def test_l15_no_local_is_called_like_a_class_or_an_import(self):
+        for name, tree in self.trees.items():
+            taken = {part.name for part in tree.body if isinstance(part, ast.ClassDef)}
+            taken |= {each.name for part in tree.body if isinstance(part, ast.ImportFrom) for each in part.names}
+            for node in ast.walk(tree):
+                if isinstance(node, ast.arg):
+                    self.assertNotIn(node.arg, taken, (name, node.lineno))
+                if isinstance(node, ast.Name) and isinstance(node.ctx, ast.Store):
+                    self.assertNotIn(node.id, taken, (name, node.lineno))
+
+    def test_l22_keywords(self):
+        for name, node in self.nodes(ast.Call):
+            allowed = KEYWORDS.get(getattr(node.func, "id", None), ())
+            for keyword in node.keywords:
+                self.assertIn(keyword.arg, allowed, (name, node.lineno))
+
+    def test_l23_walked_at_once(self):
+        walked = []
+        for name, node in self.nodes((ast.For, ast.comprehension)):
+            walked.append(node.iter)
+        for name, node in self.nodes(ast.Call):
+            if getattr(node.func, "id", None) in WALKERS or getattr(node.func, "attr", None) == "join":
+                walked.extend(node.args[:1])
+        for name, node in self.nodes(ast.Call):
+            called = getattr(node.func, "id", None) or getattr(node.func, "attr", None)
+            if called in ("zip", "enumerate", "reversed", "range", "items", "keys", "values"):
+                self.assertTrue(any(node is each for each in walked), (name, node.lineno))
+
+    def test_l24_sets_stand_in_few_places(self):
+        within = []
+        for name, node in self.nodes(ast.Call):
+            if getattr(node.func, "id", None) in ("sorted", "len") and not node.keywords:
+                within.extend(node.args)
+        for name, node in self.nodes(ast.Call):
+            if getattr(node.func, "id", None) in ("set", "frozenset"):
+                self.assertTrue(any(node is each for each in within), (name, node.lineno))
+
     def test_l24_l27_sets_powers_and_texts(self):
         for name, node in self.nodes(ast.BinOp):
-            if isinstance(node.op, ast.Pow) and isinstance(node.left, ast.Constant):
+            if isinstance(node.op, ast.Pow):
                 self.assertIn(getattr(node.right, "value", None), range(65), (name, node.lineno))
         for name, node in self.nodes(ast.Constant):
             if isinstance(node.value, str):
