@@ -1,11 +1,9 @@
 """Notereader: a keepsake read from the text of eight lines that tells it."""
 
-from sketchbounds.errors import BadText
 from sketchbounds.keepsake import Keepsake
-from sketchbounds.sound import sound_bounds, sound_distinct, sound_frequent, sound_rungs, sound_window
+from sketchbounds.sound import sound_distinct, sound_frequent, sound_rungs, sound_window
+from sketchbounds.wordreader import bounds_of, need, number_of, numbers_of
 
-FIGURES = "0123456789"
-MOST_FIGURES = 60
 LINES = 8
 
 
@@ -23,27 +21,11 @@ def read_keepsake(text):
     return keepsake
 
 
-def need(holds, line):
-    if not holds:
-        raise BadText(line)
-
-
 def words_of(lines, line, name):
     need(line <= len(lines), line)
     words = lines[line - 1].split(" ")
     need(words[0] == name, line)
     return words[1:]
-
-
-def numbers_of(words, line):
-    return [number_of(word, line) for word in words]
-
-
-def number_of(word, line):
-    # Not isdigit: that holds of many other signs, too.
-    need(1 <= len(word) <= MOST_FIGURES and all([sign in FIGURES for sign in word]), line)
-    need(word == "0" or word[0] != "0", line)
-    return int(word)
 
 
 def signed_of(word, line):
@@ -55,8 +37,7 @@ def signed_of(word, line):
 
 
 def read_keep(words, line):
-    numbers = numbers_of(words, line)
-    need(len(numbers) == 3 and sound_bounds(numbers[0], numbers[1], numbers[2]), line)
+    numbers = bounds_of(words, line)
     return Keepsake(numbers[0], numbers[1], numbers[2])
 
 

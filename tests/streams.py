@@ -97,6 +97,59 @@ def keepsake_of(room, reach, span, rows):
     return made
 
 
+def true_answer(rows, word, *numbers):
+    """What a list of all rows tells, or the refusal's name; of word off the number is the span."""
+    puts = sorted(row[1:] for row in rows if row[0] == "put")
+    if word == "net":
+        return sum(more for thing, more in signed_rows(rows) if thing == numbers[0])
+    if word == "ranked":
+        return sum(more for thing, more in signed_rows(rows) if thing <= numbers[0])
+    if word == "all_put":
+        return sum(weight for thing, weight in puts)
+    if word == "often":
+        share = sum(weight for thing, weight in puts) * numbers[0]
+        return sorted(thing for thing, weight in true_weights(puts).items() if weight * numbers[1] > share)
+    if word == "by_rank":
+        return true_by_rank(puts, numbers[0])
+    if word == "last":
+        return true_last(rows, numbers[0])
+    if word == "distinct":
+        return len({thing for thing, weight in puts})
+    return true_off(rows, numbers[0])
+
+
+def signed_rows(rows):
+    return [(row[1], row[2] if row[0] == "put" else -row[2]) for row in rows if row[0] != "idle"]
+
+
+def true_by_rank(puts, k):
+    before = 0
+    for thing, weight in puts:
+        if before < k <= before + weight:
+            return thing
+        before += weight
+    return "OutOfReach"
+
+
+def true_last(rows, many):
+    left, told = many, 0
+    for row in reversed(rows):
+        if left <= 0:
+            break
+        told += row[2] if row[0] == "put" else 0
+        left -= row[1] if row[0] == "idle" else 1
+    return told
+
+
+def true_off(rows, span):
+    nets = true_weights(row for row in signed_rows(rows) if row[0] < span)
+    pairs = sorted((thing, more - 1) for thing, more in nets.items() if more != 1)
+    # Three missing ones are too many already.
+    missing = [thing for thing in range(min(span, len(nets) + 3)) if thing not in nets]
+    pairs = sorted(pairs + [(thing, -1) for thing in missing])
+    return pairs if len(pairs) <= 2 else "TooManyOff"
+
+
 def true_weights(rows):
     weights = {}
     for thing, weight in rows:

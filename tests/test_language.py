@@ -158,6 +158,13 @@ class LanguageTest(unittest.TestCase):
         stored = {node.attr for name, node in self.nodes(ast.Attribute) if isinstance(node.ctx, ast.Store)}
         self.assertEqual(stored & self.own_methods(), set())
 
+    def test_l19_errors_are_made_on_the_spot_and_taken_by_name(self):
+        own = [part.name for part in self.trees["errors"].body if isinstance(part, ast.ClassDef)]
+        for name, node in self.nodes(ast.Raise):
+            self.assertIn(node.exc.func.id, own, (name, node.lineno))
+        for name, node in self.nodes(ast.ExceptHandler):
+            self.assertIn(node.type.id, own, (name, node.lineno))
+
     def test_l20_is(self):
         for name, node in self.nodes(ast.Compare):
             for step, right in zip(node.ops, node.comparators):
